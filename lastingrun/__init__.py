@@ -1,0 +1,1 @@
+"""Programs whose running state outlives crashes."""
