@@ -324,6 +324,12 @@ class OrderTest(CheckCase):
         self.main("let a = -f().x * b", (0, "many"), (0, "unknown"))
         self.main("let a = (b and 1) == (f() or 2)", (0, "unknown"), (0, "many"))
 
+    def test_within_arguments(self):
+        two = "end func g(a, b) end func f(a) end"
+        for call in ("g", "let x = g", "spawn g", "return 1 + g"):
+            self.found(f"func main() {call}(b, f()) {two}", ("main", 0, "unknown"), ("main", 0, "many"))
+            self.found(f"func main() {call}(f(), b) {two}", ("main", 0, "many"), ("main", 0, "unknown"))
+
     def test_within_a_function(self):
         self.found("func main() end func f(a, a) let a = b end", ("f", -1, "twice"), ("f", 0, "twice"),
                    ("f", 0, "unknown"))
