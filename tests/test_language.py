@@ -18,6 +18,22 @@ INTERFACE = {
     "limits": (),
     "text": ("read", "write"),
     "check": ("faults",),
+    "live": ("live",),
+    "plain": ("Run",),
+    "memory": ("Memory",),
+    "heap": ("Heap",),
+}
+
+# The methods that stand in the body of a class of the interface.
+CLASS_METHODS = {
+    ("plain", "Run"): (
+        "__init__", "give", "given", "turn", "turns", "outputs", "sent", "forget", "able", "program", "changes",
+        "picture", "change",
+    ),
+    ("memory", "Memory"): (
+        "__init__", "get", "put", "many", "page", "changed", "freeze", "frozen", "frozen_many", "settle", "thaw",
+    ),
+    ("heap", "Heap"): ("__init__", "make", "kind", "atoms", "get", "put", "free", "refs"),
 }
 
 BUILTINS = set(
@@ -37,7 +53,7 @@ NO_NAMES = set(
     "locals methodcaller os quit setattr super type vars sys args property staticmethod classmethod".split())
 
 NO_STATEMENTS = (
-    ast.Global, ast.AsyncFunctionDef, ast.AsyncFor, ast.AsyncWith, ast.Await, ast.Import, ast.Div, ast.Try,
+    ast.Global, ast.AsyncFunctionDef, ast.AsyncFor, ast.AsyncWith, ast.Await, ast.Import, ast.Div,
     ast.MatchClass, ast.MatchMapping, ast.MatchOr, ast.Set, ast.With,
 )
 
@@ -83,6 +99,14 @@ class LanguageTest(unittest.TestCase):
             here = [node.name for node in bodies[name] if isinstance(node, (ast.FunctionDef, ast.ClassDef))]
             self.assertLessEqual(set(wanted), set(here))
 
+    def test_methods_of_the_interface(self):
+        bodies = {name[:-3]: tree.body for name, tree in trees()}
+        for (name, wanted), methods in CLASS_METHODS.items():
+            found = [node for node in bodies[name] if isinstance(node, ast.ClassDef) and node.name == wanted]
+            here = [node.name for node in found[0].body if isinstance(node, ast.FunctionDef)]
+            self.assertLessEqual(set(methods), set(here))
+            self.assertEqual(len(here), len(set(here)))
+
     def test_characters_and_sizes(self):
         for name, text in files():
             with self.subTest(name):
@@ -113,16 +137,22 @@ class LanguageTest(unittest.TestCase):
     def test_module_level(self):
         for name, tree in trees():
             names = []
+            functions = []
             for place, node in enumerate(tree.body):
+                if isinstance(node, ast.FunctionDef):
+                    functions.append(node.name)
                 docstring = place == 0 and isinstance(node, ast.Expr) and isinstance(node.value, ast.Constant)
                 self.assertTrue(docstring or isinstance(
                     node, (ast.ImportFrom, ast.FunctionDef, ast.ClassDef, ast.Assign)), (name, node.lineno))
                 if isinstance(node, ast.Assign):
                     self.assertEqual(len(node.targets), 1)
                     self.assertIsInstance(node.targets[0], ast.Name)
-                    self.assertFalse(
-                        [part for part in ast.walk(node.value) if isinstance(part, (ast.Name, ast.Call))],
-                        (name, node.lineno))
+                    # Only functions that stand above may be named, in a dict.
+                    for part in ast.walk(node.value):
+                        self.assertNotIsInstance(part, ast.Call, (name, node.lineno))
+                        if isinstance(part, ast.Name):
+                            self.assertIsInstance(node.value, ast.Dict, (name, node.lineno))
+                            self.assertIn(part.id, functions, (name, node.lineno))
                     names.append(node.targets[0].id)
                 if isinstance(node, ast.ImportFrom):
                     names.extend(alias.name for alias in node.names)
@@ -176,6 +206,56 @@ class LanguageTest(unittest.TestCase):
             for node in ast.walk(tree):
                 if isinstance(node, ast.Call) and isinstance(node.func, ast.Attribute):
                     self.assertIn(node.func.attr, METHODS | defined, (name, node.lineno))
+
+    def test_handlers(self):
+        """Only errors of the package are caught, by one name."""
+        own = {node.name for _, tree in trees() for node in tree.body if isinstance(node, ast.ClassDef)}
+        for name, tree in trees():
+            for node in ast.walk(tree):
+                if isinstance(node, ast.ExceptHandler):
+                    self.assertIsInstance(node.type, ast.Name, (name, node.lineno))
+                    self.assertIn(node.type.id, own, (name, node.lineno))
+                if isinstance(node, ast.Try):
+                    self.assertFalse(node.finalbody, (name, node.lineno))
+
+    def test_identity(self):
+        for name, tree in trees():
+            for node in ast.walk(tree):
+                if isinstance(node, ast.Compare):
+                    for sign, right in zip(node.ops, node.comparators):
+                        if isinstance(sign, (ast.Is, ast.IsNot)):
+                            self.assertIsInstance(right, ast.Constant, (name, node.lineno))
+
+    def test_views_are_iterated_at_once(self):
+        for name, tree in trees():
+            good = set()
+            for node in ast.walk(tree):
+                if isinstance(node, (ast.For, ast.comprehension)):
+                    good.add(id(node.iter))
+                if isinstance(node, ast.Call) and isinstance(node.func, ast.Name) and node.args:
+                    if node.func.id in ("list", "tuple", "dict", "sorted", "sum", "any", "all", "enumerate", "zip"):
+                        good.update(id(part) for part in node.args)
+                    if node.func.id in ("reversed", "len") and isinstance(node.args[0], ast.Call):
+                        if getattr(node.args[0].func, "id", None) == "range":
+                            good.add(id(node.args[0]))
+                if isinstance(node, ast.Call) and isinstance(node.func, ast.Attribute) and node.func.attr == "join":
+                    good.update(id(part) for part in node.args)
+            for node in ast.walk(tree):
+                if isinstance(node, ast.Call):
+                    word = getattr(node.func, "id", getattr(node.func, "attr", None))
+                    if word in ("zip", "enumerate", "reversed", "range", "items", "keys", "values"):
+                        self.assertIn(id(node), good, (name, node.lineno))
+
+    def test_methods_and_attributes(self):
+        """No name is both a method and an attribute of one class."""
+        for name, tree in trees():
+            for node in ast.walk(tree):
+                if isinstance(node, ast.ClassDef):
+                    methods = {part.name for part in node.body if isinstance(part, ast.FunctionDef)}
+                    stored = {
+                        part.attr for part in ast.walk(node)
+                        if isinstance(part, ast.Attribute) and isinstance(part.ctx, ast.Store)}
+                    self.assertFalse(methods & stored, (name, node.name))
 
     def test_captured_names(self):
         """A captured name is read only in its own case and is bound by nothing else in its function."""
