@@ -208,6 +208,11 @@ class HeldTest(PictureCase):
         run.turn()
         self.assertEqual(run.picture()[2][0][1][0], ("main", 1, None, (), ()))
 
+    def test_after_a_call_as_a_statement(self):
+        """What it returned is needed no more."""
+        run = self.run_of("k() let x = 1 + receive in end func k() return 9")
+        self.assertEqual(run.picture()[2][0][1][0], ("main", 1, 0, (1,), ()))
+
     def test_in_a_handler(self):
         """What the statement in the try had computed is dropped."""
         run = self.run_of("try let x = 1 + (2 + 1 / 0) catch e let y = e + receive in end")

@@ -141,6 +141,13 @@ class OperatorTest(PlainCase):
         self.value("2 or 1 / 0", 2)
         self.value("0 and 1 / 0", 0)
 
+    def test_and_and_or_behind_other_operands(self):
+        self.value("1 + (0 and 5)", 1)
+        self.value("1 + (4 and 5)", 6)
+        self.value("0 + (0 or 5)", 5)
+        self.value("0 + (4 or 5)", 4)
+        self.value("f(0, 4 and 5) * f(1, 0 or 5)", 30)
+
     def test_skipped_operands_take_nothing(self):
         self.value("(0 and receive in) + receive in", 5, given=(5, 6))
         self.value("(1 or receive in) + receive in", 6, given=(5, 6))
