@@ -13,6 +13,13 @@ class Heap:
         self._cells = {}
         self._sizes = {}
         self._puts = None
+        # Those who are told of every put and free.
+        self._watchers = []
+
+    def watch(self, watcher):
+        """Tells this object from now on, just before: note_put(ref, atom), with the ATOM that is
+        replaced, and note_free(ref)."""
+        self._watchers.append(watcher)
 
     def _look(self):
         """Finds the objects if something else has changed the memory."""
@@ -84,11 +91,16 @@ class Heap:
 
     def put(self, ref, place, atom):
         """Replaces an ATOM of an object. Raises NoObject(ref), then NoPlace(place)."""
-        self._write(self._place_cell(ref, place), [atom])
+        cell = self._place_cell(ref, place)
+        for watcher in self._watchers:
+            watcher.note_put(ref, self._memory.get(cell))
+        self._write(cell, [atom])
 
     def free(self, ref):
         """Puts None into the cells of an object. Raises NoObject(ref)."""
         cell = self._cell(ref)
+        for watcher in self._watchers:
+            watcher.note_free(ref)
         size = self._sizes[cell]
         del self._cells[ref]
         del self._sizes[cell]

@@ -3,7 +3,7 @@
 from lastingrun.changing import check_change, move_frame, sound
 from lastingrun.pictures import Picture
 from lastingrun.steps import codes_of
-from lastingrun.turns import Frame, Turn
+from lastingrun.turns import Frame, Turn, next_able
 
 
 class Record:
@@ -70,12 +70,6 @@ class World:
         """Whether a task with these frames waits at an empty queue."""
         step = frames[-1].code.steps[frames[-1].place]
         return step[0] == "receive" and self.is_empty(step[1])
-
-
-def next_able(able, last):
-    """Which of the able tasks has the turn behind one of the last task, which may be None."""
-    later = [number for number in able if last is not None and number > last]
-    return later[0] if later else able[0]
 
 
 class Run:

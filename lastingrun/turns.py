@@ -6,6 +6,12 @@ from lastingrun.values import (
 )
 
 
+def next_able(able, last):
+    """Which of the able tasks has the turn behind one of the last task, which may be None."""
+    later = [number for number in able if last is not None and number > last]
+    return later[0] if later else able[0]
+
+
 class Frame:
     """A call in progress: where it is, the values that its statement still needs, its variables."""
 

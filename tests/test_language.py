@@ -22,6 +22,10 @@ INTERFACE = {
     "plain": ("Run",),
     "memory": ("Memory",),
     "heap": ("Heap",),
+    "collect": ("reachable", "Collector"),
+    "machine": ("Machine",),
+    "disk": ("Disk", "disk_of"),
+    "log": ("Log",),
 }
 
 # The methods that stand in the body of a class of the interface.
@@ -34,6 +38,17 @@ CLASS_METHODS = {
         "__init__", "get", "put", "many", "page", "changed", "freeze", "frozen", "frozen_many", "settle", "thaw",
     ),
     ("heap", "Heap"): ("__init__", "make", "kind", "atoms", "get", "put", "free", "refs"),
+    ("collect", "Collector"): ("__init__", "begin", "busy", "step"),
+    ("machine", "Machine"): (
+        "__init__", "give", "given", "turn", "turns", "outputs", "sent", "forget", "able", "program", "changes",
+        "picture", "change", "memory", "collect", "records",
+    ),
+    ("disk", "Disk"): (
+        "__init__", "read", "write", "size", "writes", "barrier", "loose", "fail_after", "crash", "image",
+    ),
+    ("log", "Log"): (
+        "__init__", "append", "flush", "records", "many", "safe", "epoch", "next_block", "cut",
+    ),
 }
 
 BUILTINS = set(
