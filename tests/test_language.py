@@ -26,6 +26,10 @@ INTERFACE = {
     "machine": ("Machine",),
     "disk": ("Disk", "disk_of"),
     "log": ("Log",),
+    "store": ("make_store", "Store"),
+    "host": ("start", "recover", "Host"),
+    "audit": ("audit", "replayed", "explains"),
+    "sheet": ("answers",),
 }
 
 # The methods that stand in the body of a class of the interface.
@@ -48,6 +52,13 @@ CLASS_METHODS = {
     ),
     ("log", "Log"): (
         "__init__", "append", "flush", "records", "many", "safe", "epoch", "next_block", "cut",
+    ),
+    ("store", "Store"): (
+        "__init__", "newest", "facts", "many", "page", "begin", "step", "finish", "is_open", "free",
+    ),
+    ("host", "Host"): (
+        "__init__", "accept", "change", "run", "turns", "commit", "fixed", "confirmed", "outbox", "took", "snapshot",
+        "collect", "records", "picture", "able", "text",
     ),
 }
 
