@@ -125,7 +125,10 @@ class StartTest(HostCase):
                 start(Disk(size), ADDER)
             self.assertEqual(caught.exception.count, size - 18)
         for size in (0, 1, 2, 3, 17, 18):
-            self.assertRaises(Full, start, Disk(size), ADDER)
+            disk = Disk(size)
+            with self.assertRaises(Full) as caught:
+                start(disk, ADDER)
+            self.assertEqual([caught.exception.count, disk.writes()], [size - 18, 0])
             self.assertRaises(BadText, start, Disk(size), "x")
         self.assertRaises(Full, start, Disk(21), MAKER + " func f(" + ", ".join("abcdefghijklmnop") + ") end")
 
@@ -309,8 +312,33 @@ class CommitTest(HostCase):
         self.assertEqual([self.host.fixed(), self.host.confirmed("in"), self.host.commit()], [2, 1, 2])
         # The event waited, so its RECORD is written all the same; the turns are fixed already.
         self.assertEqual(records(self.disk), [("in", 1, "in", 1, 5)])
+        self.host.accept("in", 2, 5)
+        self.assertEqual(self.host.confirmed("in"), 1)
         self.crash()
         self.assertEqual([self.host.turns(), self.host.confirmed("in"), self.host.outbox("out")], [2, 1, [(1, 5)]])
+
+    def test_confirmed_on_several_ports(self):
+        self.begin(ECHO)
+        self.host.accept("in", 1, 5)
+        self.host.commit()
+        self.host.accept("in", 2, 5)
+        self.host.accept("p", 1, 5)
+        self.host.change(ECHO)
+        self.host.accept("p", 2, 5)
+        ports = ("in", "p", "out")
+        self.assertEqual([self.host.confirmed(port) for port in ports], [1, 0, 0])
+        self.host.snapshot(0)
+        self.host.accept("p", 3, 5)
+        self.assertEqual([self.host.confirmed(port) for port in ports], [1, 0, 0])
+        self.host.snapshot()
+        self.assertEqual([self.host.confirmed(port) for port in ports], [2, 2, 0])
+        self.assertIs(self.host.snapshot(0), False)
+        self.host.accept("in", 3, 5)
+        self.assertEqual([self.host.confirmed(port=port) for port in ports], [2, 2, 0])
+        self.host.snapshot()
+        self.assertEqual([self.host.confirmed(port) for port in ports], [2, 3, 0])
+        self.host.commit()
+        self.assertEqual([self.host.confirmed(port) for port in ports], [3, 3, 0])
 
     def test_while_a_snapshot_is_open(self):
         self.begin()
@@ -498,6 +526,10 @@ class ChangeTest(HostCase):
         self.assertEqual([row[2] for row in records(self.disk)], [1, 2])
         self.crash()
         self.assertEqual(self.host.text(), write(read(self.labelled)))
+        # The first one was not made again.
+        self.host.change(self.other)
+        self.host.commit()
+        self.assertEqual([row[2] for row in records(self.disk)], [1, 2, 3])
 
 
 class SnapshotTest(HostCase):
@@ -515,12 +547,18 @@ class SnapshotTest(HostCase):
         self.begin(MAKER)
         feed(self.host, 4)
         self.host.run(9)
+        before = copy.deepcopy(self.disk), self.host.picture()
         self.assertIs(self.host.snapshot(0), False)
         self.assertEqual(self.disk.done, [])
         count = 0
         while not self.host.snapshot(1):
             count += 1
             self.assertEqual(len(self.disk.done), count)
+        # All pages but the last one were written by then; index blocks name them.
+        store = Store(self.disk, 18, 300)
+        older = Store(before[0], 18, 300)
+        pages = [number for number in range(store.many()) if store.page(number) not in ((), older.page(number))]
+        self.assertEqual(count, len(pages) - 1)
         self.assertGreater(count, 3)
         self.assertEqual([self.host.fixed(), self.host.confirmed("in"), audit(self.disk)], [self.host.turns(), 4, []])
 

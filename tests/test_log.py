@@ -321,6 +321,9 @@ class OpenTest(LogCase):
         # Not of this form.
         self.opened((a, ("log", 1, 8, 1, 1, 1), ()), [("a",)], epoch=2)
         self.opened((a, ("root", 1, 8, 1, 0), ()), [("a",)], epoch=2)
+        for number in (-1, "1", None):
+            self.opened((a, ("log", number, 8, 1, 0), ()), [("a",)], epoch=2)
+            self.opened((a, ("log", 1, 8, number, 0), ()), [("a",)], epoch=2)
         # Not in the ring.
         disk = disk_of((("log", 0, 9, 0, 0), a, (), ("log", 1, 9, 0, 0)))
         self.assertEqual([Log(disk, 1, 2).epoch(), Log(disk, 1, 2).records(0)], [2, [("a",)]])

@@ -1,3 +1,4 @@
+import inspect
 import unittest
 
 from lastingrun.errors import BadLine, BadText, Full, Unsound
@@ -126,6 +127,16 @@ class AnswerTest(SheetCase):
 
     def test_no_requests(self):
         self.assertEqual(answers(sheet()), [])
+
+    def test_the_size(self):
+        self.assertEqual(inspect.signature(answers).parameters["size"].default, 200)
+        requests = []
+        for number in range(1, 60):
+            requests += [f"accept in {number} 1", "run 9", "commit", "snapshot"]
+        text = sheet(*requests, text=MAKER.replace("n: r,", "n: r, a: 1, b: 1, c: 1, d: 1,"))
+        found = [answers(text), answers(text, 200), answers(text, size=100)]
+        self.assertEqual(found[0], found[1])
+        self.assertGreater(found[2].count("error Full"), found[0].count("error Full"))
 
 
 class FailTest(SheetCase):

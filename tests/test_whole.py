@@ -1,4 +1,9 @@
-"""The guarantees over the whole program: sessions of hosts with crashes, beside plain runs without any."""
+"""The guarantees over the whole program: sessions of hosts with crashes, beside plain runs without any.
+
+Promise [1] (a), (b), (e) and (g) are looked at here, by the World around the host and by the Careful disk;
+(c) and (d) also by test_machine.py and test_machine_plain.py, (e) by test_store.py, (f) by test_log.py, (g) by
+test_change.py over machines.
+"""
 
 import collections
 import copy
