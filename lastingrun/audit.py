@@ -72,6 +72,10 @@ def explains(text, history, turns, seen):
         run = replayed(text, history, turns)
     except NoHistory:
         return False
+    except BadText:
+        return False
+    except Unsound:
+        return False
     for port, pairs in as_tuples(seen):
         outputs = [(number, value) for number, value, _ in run.outputs(port)]
         if tuple(outputs[:len(pairs)]) != pairs:

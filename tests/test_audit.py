@@ -322,6 +322,11 @@ class ExplainsTest(unittest.TestCase):
         self.assertIs(explains(TEXT, self.history, 2, [("out", [(1, 5), (2, 11), (3, 18)])]), False)
         self.assertIs(explains(TEXT, self.history, 2, [("out", [(1, 5), (2, 11)])]), True)
 
+    def test_texts_that_are_no_programs(self):
+        for text in ("", "x", "func main(", "func main() a = 1 end", "func f() end"):
+            self.assertIs(explains(text, [], 0, []), False)
+            self.assertIs(explains(text, self.history, 2, []), False)
+
     def test_the_arguments_stay(self):
         seen = [["out", [[1, 5]]]]
         history = [list(event) for event in self.history]
